@@ -1,0 +1,1 @@
+"""What a theme still guarantees under every later layer."""
