@@ -41,6 +41,11 @@ def sealed(permission):
     return ("sealed", None, None)
 
 
+def open_names(settings):
+    """The list of the names of the settings that are not sealed."""
+    return [name for name, permission, _ in settings if permission[0] != "sealed"]
+
+
 def changed(setting, row):
     """The setting after a row that its permission allows."""
     name, permission, definition = setting

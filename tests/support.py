@@ -6,6 +6,7 @@ The model shares no code with the package: it follows the document by recursion 
 import random
 
 from laterthemes.books import Book
+from laterthemes.claims import Claim
 
 THEME = [
     ("ground", ("free", 0, 100, []), ("number", 95)),
@@ -24,6 +25,8 @@ def odd_objects():
     return [
         None, True, False, 0, 1, -7, 10 ** 39, "", "ground", "seal", "no such", [], (), {}, [None], (None,),
         ["ground"], ("ground",), ("seal",), {"ground": 1}, {0: []}, [[]], [()], ((),), Book([]), theme(), (theme(),),
+        Claim([]), Claim([[("ground", 0, 1)]]), [Claim([])], [[("ground", 0, 1)]], ("ground", 0, 1), ("case", "ground", []),
+        ("ring", []), {"conflicts": []},
     ]
 
 
@@ -188,6 +191,14 @@ class Maker:
     def layer(self, settings):
         return [self.row(settings) for _ in range(self.dice.randint(0, 8))] if settings else []
 
+    def end(self, names):
+        return self.dice.choice(list(names) * 3 + [0])
+
+    def claim(self, names, conflicts=3, facts=3):
+        """A claim over these names with at most so many conflicts and facts in each of them."""
+        return Claim([[(self.end(names), self.end(names), self.number()) for _ in range(self.dice.randint(1, facts))]
+                      for _ in range(self.dice.randint(0, conflicts))])
+
     def allowed_layer(self, settings):
         layer = []
         for _ in range(self.dice.randint(0, 30) if settings else 0):
@@ -195,3 +206,14 @@ class Maker:
             if isinstance(model_after(settings, layer + [row]), list):
                 layer.append(row)
         return layer
+
+
+class SmallMaker(Maker):
+    """Makes books of small numbers, so that trying a few numbers is enough."""
+
+    def number(self):
+        return self.dice.randint(-1, 2)
+
+    def small_settings(self, count):
+        names = "abcdefgh"[:count]
+        return [self.setting(name, list(names[:at])) for at, name in enumerate(names)]

@@ -7,7 +7,10 @@ from pathlib import Path
 
 from laterthemes import books, errors, layers
 from laterthemes.books import Book, ring_layer
+from laterthemes.claims import Claim, holds
+from laterthemes.duals import breaks, seals
 from laterthemes.layers import plain, touched
+from laterthemes.verdicts import alternatives, check_break, check_evidence, verdict
 from tests.support import THEME, theme
 
 PACKAGE = Path(books.__file__).parent
@@ -16,8 +19,14 @@ LISTED = {
                "InvalidNumber", "InvalidList", "MismatchedBooks", "BrokenClaim", "NothingToUndo"],
     "books": ["Book", "ring_layer"],
     "layers": ["touched", "plain"],
+    "claims": ["Claim", "holds"],
+    "verdicts": ["alternatives", "verdict", "check_evidence", "check_break"],
+    "duals": ["breaks", "seals"],
 }
-METHODS = ["names", "settings", "setting", "evaluate", "ranks", "__getitem__", "__contains__", "__len__", "__eq__", "__add__"]
+METHODS = {
+    Book: ["names", "settings", "setting", "evaluate", "ranks", "__getitem__", "__contains__", "__len__", "__eq__", "__add__"],
+    Claim: ["conflicts", "at_least", "at_most", "equal", "contrast", "within", "__and__", "__eq__"],
+}
 
 
 def parameters(function):
@@ -38,8 +47,12 @@ class Interface(unittest.TestCase):
                     self.assertEqual(defined.count(name), 1)
 
     def test_methods_in_the_class(self):
-        for name in METHODS:
-            self.assertIn(name, vars(Book))
+        for kind, names in METHODS.items():
+            for name in names:
+                self.assertIn(name, vars(kind))
+        self.assertIsInstance(vars(Claim)["conflicts"], property)
+        for name in ("at_least", "at_most", "equal", "contrast", "within"):
+            self.assertIsInstance(vars(Claim)[name], staticmethod)
 
     def test_parameters(self):
         self.assertEqual(parameters(Book), plain_parameters("settings"))
@@ -49,6 +62,19 @@ class Interface(unittest.TestCase):
         self.assertEqual(parameters(Book.setting), plain_parameters("self", "name"))
         for name in ("names", "settings", "evaluate", "ranks"):
             self.assertEqual(parameters(getattr(Book, name)), plain_parameters("self"))
+
+    def test_parameters_of_claims_verdicts_and_duals(self):
+        self.assertEqual(parameters(Claim), plain_parameters("conflicts"))
+        for name in ("at_least", "at_most", "contrast", "within"):
+            self.assertEqual(parameters(getattr(Claim, name)), plain_parameters("one", "other", "k"))
+        self.assertEqual(parameters(Claim.equal), plain_parameters("one", "other"))
+        self.assertEqual(parameters(holds), plain_parameters("book", "claim"))
+        self.assertEqual(parameters(alternatives), plain_parameters("book", "name"))
+        self.assertEqual(parameters(verdict), plain_parameters("book", "claim"))
+        self.assertEqual(parameters(check_evidence), plain_parameters("book", "claim", "evidence"))
+        self.assertEqual(parameters(check_break), plain_parameters("book", "claim", "layer"))
+        for call in (breaks, seals):
+            self.assertEqual(parameters(call), plain_parameters("book", "claim") + [("loose", inspect.Parameter.KEYWORD_ONLY, ())])
 
     def test_by_name(self):
         layer = [("add", "edge", 7)]
@@ -82,6 +108,18 @@ class Interface(unittest.TestCase):
             self.assertIs(type(result), kind)
         for setting in book.settings():
             self.assertEqual([type(part) for part in setting], [str, tuple, tuple])
+
+    def test_kinds_of_results_about_claims(self):
+        book, claim = theme(), Claim.contrast("link", "ground", 60)
+        sure = Claim.at_least("text", 0, 10)
+        for result, kind in [(claim.conflicts, list), (claim & sure, Claim), (claim == sure, bool), (holds(book, claim), bool),
+                             (alternatives(book, "text"), list), (verdict(book, claim), tuple), (verdict(book, sure), tuple),
+                             (verdict(book, claim)[1], list), (verdict(book, sure)[1], list), (verdict(book, sure)[1][0], tuple),
+                             (check_evidence(book, claim, []), bool), (check_break(book, claim, []), bool),
+                             (breaks(book, claim), list), (seals(book, claim), list), (breaks(book, claim)[0], tuple),
+                             (breaks(book, claim)[0][0], tuple), (breaks(book, claim)[0][1], list),
+                             (seals(book, claim)[0], tuple), (seals(book, claim)[0][0], tuple), (seals(book, claim)[0][1], list)]:
+            self.assertIs(type(result), kind)
 
     def test_equal_calls_return_equal_results(self):
         layer = [("add", "edge", 7)]

@@ -22,7 +22,10 @@ NODES = """
     Module Expr Assign Name Constant Load Store FunctionDef arguments arg ClassDef Return If While For Break Continue Pass
     Raise Call keyword Attribute Subscript Slice Tuple List Dict BinOp UnaryOp BoolOp Compare IfExp ListComp DictComp SetComp
     comprehension Add Sub Mult FloorDiv Mod USub Not And Or Eq NotEq Lt LtE Gt GtE Is IsNot In NotIn ImportFrom alias
+    Try ExceptHandler
 """.split()
+DECORATORS = ["property", "staticmethod"]
+MODIFYING = ["append", "clear", "extend", "insert", "pop", "remove", "reverse", "setdefault", "update"]
 BUILTINS = """
     len range enumerate zip min max sum abs sorted reversed int str bool bytes list tuple dict set frozenset isinstance ord
     repr any all divmod Exception ValueError TypeError KeyError IndexError LookupError ZeroDivisionError ArithmeticError
@@ -87,7 +90,27 @@ def docstrings(tree):
 
 
 def own_methods():
-    return [item.name for _, node in nodes(ast.ClassDef) for item in node.body if isinstance(item, ast.FunctionDef)]
+    return [item.name for _, item in methods_of_classes()]
+
+
+def methods_of_classes():
+    """All methods, each with the class in which it stands."""
+    for _, node in nodes(ast.ClassDef):
+        yield from [(node, item) for item in node.body if isinstance(item, ast.FunctionDef)]
+
+
+def decorators(function):
+    return [item.id for item in function.decorator_list if isinstance(item, ast.Name)]
+
+
+def stored_attributes():
+    """The names of all attributes that the package assigns."""
+    return {node.attr for _, node in nodes(ast.Attribute) if isinstance(node.ctx, ast.Store)}
+
+
+def call_name(node):
+    """The name of the function or the method that is called."""
+    return node.func.id if isinstance(node.func, ast.Name) else node.func.attr
 
 
 class Files(unittest.TestCase):
@@ -186,14 +209,44 @@ class Statements(unittest.TestCase):
                 if isinstance(node, ast.Expr) and node.value not in strings:
                     self.assertIsInstance(node.value, ast.Call, f"{path.name}:{node.lineno}")
 
-    def test_no_decorators_annotations_and_stars(self):
+    def test_no_annotations_and_stars(self):
         for place, node in nodes(ast.FunctionDef):
-            self.assertEqual(node.decorator_list, [], place)
             self.assertIsNone(node.returns, place)
             self.assertIsNone(node.args.vararg or node.args.kwarg, place)
-            self.assertTrue(all(item.annotation is None for item in node.args.args), place)
-            for default in node.args.defaults:
-                ast.literal_eval(default)
+            self.assertFalse(node.args.posonlyargs, place)
+            self.assertTrue(all(item.annotation is None for item in node.args.args + node.args.kwonlyargs), place)
+            for default in node.args.defaults + [item for item in node.args.kw_defaults if item is not None]:
+                self.assertNotIsInstance(ast.literal_eval(default), (list, dict), place)
+
+    def test_decorators_stand_over_methods(self):
+        methods = [method for _, method in methods_of_classes()]
+        decorated = [method.name for method in methods if method.decorator_list]
+        for place, node in nodes(ast.ClassDef):
+            self.assertEqual(node.decorator_list, [], place)
+        for place, node in nodes(ast.FunctionDef):
+            self.assertEqual(len(decorators(node)), len(node.decorator_list), place)
+            self.assertTrue(decorators(node) in ([], ["property"], ["staticmethod"]), place)
+            if node.decorator_list:
+                self.assertIn(node.name, decorated, place)
+                self.assertEqual(own_methods().count(node.name), 1, place)
+                self.assertNotIn(node.name, sorted(stored_attributes()) + METHODS, place)
+                self.assertFalse(node.args.kwonlyargs, place)
+                self.assertTrue(decorators(node) != ["property"] or [item.arg for item in node.args.args] == ["self"], place)
+                self.assertFalse(node.name.startswith("__"), place)
+
+    def test_names_alone_after_a_star_in_functions_only(self):
+        for _, method in methods_of_classes():
+            self.assertFalse(method.args.kwonlyargs and method.name.startswith("__"), method.name)
+
+    def test_own_errors_alone_are_caught(self):
+        own = [node.name for node in tree_of(PACKAGE / "errors.py").body if isinstance(node, ast.ClassDef)]
+        for place, node in nodes(ast.Try):
+            self.assertFalse(node.finalbody, place)
+            for handler in node.handlers:
+                caught = handler.type.elts if isinstance(handler.type, ast.Tuple) else [handler.type]
+                self.assertTrue(caught, place)
+                for item in caught:
+                    self.assertIn(getattr(item, "id", None), own, place)
 
     def test_is(self):
         for place, node in nodes(ast.Compare):
@@ -264,7 +317,9 @@ class Names(unittest.TestCase):
                     bound.add(node.id)
                 if isinstance(node, ast.arg):
                     bound.add(node.arg)
-            read = {node.id for node in ast.walk(tree) if isinstance(node, ast.Name) and isinstance(node.ctx, ast.Load)}
+            over = [item for node in ast.walk(tree) if isinstance(node, ast.FunctionDef) for item in node.decorator_list]
+            read = {node.id for node in ast.walk(tree) if isinstance(node, ast.Name) and isinstance(node.ctx, ast.Load)
+                    and not (node in over and node.id in DECORATORS)}
             self.assertLessEqual(read - bound, set(BUILTINS), path)
             self.assertNotIn("_", read, path)
 
@@ -323,26 +378,83 @@ class Names(unittest.TestCase):
                 self.assertFalse(re.fullmatch("__.*__", node.value), place)
 
 
-class Operators(unittest.TestCase):
-    """What the operators of a book run changes nothing but what it made itself."""
+def is_new(node, kinds):
+    """Whether an expression is a new object of these kinds, or a call of list, dict or sorted."""
+    if isinstance(node, ast.Call) and isinstance(node.func, ast.Name):
+        return node.func.id in ("list", "dict", "sorted")
+    return isinstance(node, kinds)
 
-    def made_here(self, function):
-        """The local variables that a function assigns a new list or dictionary."""
-        made = set()
+
+def made_here(function, kinds):
+    """The local variables that a function assigns a new list or dictionary, and nothing else."""
+    made, other = set(), {item.arg for item in function.args.args + function.args.kwonlyargs}
+    for node in ast.walk(function):
+        if isinstance(node, ast.Assign):
+            for target in node.targets:
+                if isinstance(target, ast.Name) and is_new(node.value, kinds):
+                    made.add(target.id)
+                else:
+                    other |= {item.id for item in ast.walk(target) if isinstance(item, ast.Name)
+                              and isinstance(item.ctx, ast.Store)}
+        if isinstance(node, (ast.For, ast.comprehension)):
+            other |= {item.id for item in ast.walk(node.target) if isinstance(item, ast.Name)}
+    return made - other
+
+
+def run_by_operators():
+    """All functions that operators, properties, `__eq__` and `__len__` run, by their names, with their places.
+
+    A method that is called may be any method of this name; what creates an object runs the `__init__` of its class.
+    """
+    table, start = {}, []
+    for path in FILES:
+        for node in tree_of(path).body:
+            if isinstance(node, ast.FunctionDef):
+                table.setdefault(node.name, []).append((f"{path.name}:{node.lineno}", node))
+    for kind, method in methods_of_classes():
+        label = kind.name if method.name == "__init__" else method.name
+        table.setdefault(label, []).append((f"{kind.name}.{method.name}", method))
+        special = method.name.startswith("__") and method.name not in ("__init__", "__enter__", "__exit__", "__call__")
+        if special and method.name not in ("__setitem__", "__iadd__") or decorators(method) == ["property"]:
+            start.append(method.name)
+    found, todo = {}, start
+    while todo:
+        name = todo.pop()
+        if name not in found:
+            found[name] = table.get(name, [])
+            todo += [call_name(node) for _, function in found[name] for node in ast.walk(function)
+                     if isinstance(node, ast.Call)]
+    return [item for items in found.values() for item in items]
+
+
+class Operators(unittest.TestCase):
+    """What operators and properties run changes nothing but what it made itself, and calls nothing that it is handed."""
+
+    def test_what_operators_run(self):
+        names = {node.name for _, node in run_by_operators()}
+        for name in ("__add__", "__eq__", "__and__", "conflicts", "__init__", "order_and_ring", "all_values", "settings_after",
+                     "is_definition", "are_conflicts", "require_claim", "copied_setting"):
+            self.assertIn(name, names)
+        self.assertFalse(names & {"fitted", "verdict", "breaks", "is_evidence"})
+
+    def assert_modifies_only(self, place, function, made):
         for node in ast.walk(function):
-            if isinstance(node, ast.Assign) and isinstance(node.value, (ast.List, ast.Dict, ast.ListComp)):
-                made |= {target.id for target in node.targets if isinstance(target, ast.Name)}
-        return made
+            if isinstance(node, ast.Subscript) and isinstance(node.ctx, ast.Store):
+                self.assertIn(getattr(node.value, "id", None), made, place)
+            if isinstance(node, ast.Call) and isinstance(node.func, ast.Attribute) and node.func.attr in MODIFYING:
+                self.assertIn(getattr(node.func.value, "id", None), made, place)
 
     def test_only_new_lists_are_modified(self):
         for place, function in nodes(ast.FunctionDef):
-            made = self.made_here(function)
-            for node in ast.walk(function):
-                if isinstance(node, ast.Subscript) and isinstance(node.ctx, ast.Store):
-                    self.assertIn(getattr(node.value, "id", None), made, place)
-                if isinstance(node, ast.Call) and isinstance(node.func, ast.Attribute):
-                    if node.func.attr in ("append", "extend", "pop", "insert", "remove", "clear", "update", "reverse"):
-                        self.assertIn(getattr(node.func.value, "id", None), made, place)
+            self.assert_modifies_only(place, function, made_here(function, (ast.List, ast.Dict, ast.ListComp, ast.DictComp)))
+
+    def test_operators_modify_only_what_is_plainly_new(self):
+        """What a dict comprehension makes does not count there."""
+        for place, function in run_by_operators():
+            self.assert_modifies_only(place, function, made_here(function, (ast.List, ast.Dict, ast.ListComp)))
+            if function.name != "__init__":
+                self.assertFalse([node for node in ast.walk(function) if isinstance(node, ast.Attribute)
+                                  and isinstance(node.ctx, ast.Store)], place)
 
     def test_attributes_are_set_in_init_only(self):
         for place, function in nodes(ast.FunctionDef):
@@ -359,3 +471,11 @@ class Operators(unittest.TestCase):
                     self.assertIn(node.func.id, known, f"{path.name}:{node.lineno}")
                 if isinstance(node, ast.Call):
                     self.assertIsInstance(node.func, (ast.Name, ast.Attribute), f"{path.name}:{node.lineno}")
+
+    def test_lists_are_passed_to_what_goes_over_them(self):
+        """Beside `__eq__` and operators, `any`, `all`, `min`, `max`, `sum` and `sorted` do not get a generator."""
+        for place, node in nodes(ast.GeneratorExp):
+            self.fail(place)
+        for place, node in nodes(ast.Call):
+            if isinstance(node.func, ast.Name) and node.func.id in ("any", "all", "sum"):
+                self.assertIsInstance(node.args[0], (ast.ListComp, ast.Name, ast.List), place)
