@@ -39,8 +39,15 @@ def order_and_ring(mentions):
                 todo.append((name, True))
                 todo.extend([(other, False) for other in mentions[name]])
             elif not done[name]:
-                return order, path[path.index(name):]
+                return order, path_from(name, path)
     return order, None
+
+
+def path_from(name, path):
+    """The part of a path of different names that begins with this one."""
+    # Not by the method index: an error has an attribute of this name, and operators run this function.
+    starts = [at for at, other in enumerate(path) if other == name]
+    return path[starts[0]:]
 
 
 def ranks_of(mentions, order):

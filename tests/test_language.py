@@ -456,6 +456,17 @@ class Operators(unittest.TestCase):
                 self.assertFalse([node for node in ast.walk(function) if isinstance(node, ast.Attribute)
                                   and isinstance(node.ctx, ast.Store)], place)
 
+    def test_operators_call_nothing_that_an_object_may_hold(self):
+        """The name of an attribute is no name of a method that an operator runs, whatever the object is."""
+        barred = stored_attributes() | {"index"}
+        self.assertIn("index", barred)
+        for place, function in run_by_operators():
+            for node in ast.walk(function):
+                if isinstance(node, ast.Call) and isinstance(node.func, ast.Attribute):
+                    self.assertNotIn(node.func.attr, barred, place)
+                if isinstance(node, ast.Call) and isinstance(node.func, ast.Name):
+                    self.assertNotIn(node.func.id, [item.arg for item in function.args.args], place)
+
     def test_attributes_are_set_in_init_only(self):
         for place, function in nodes(ast.FunctionDef):
             stored = [node for node in ast.walk(function) if isinstance(node, ast.Attribute)
