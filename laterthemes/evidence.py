@@ -30,7 +30,8 @@ def is_ring(x, known):
     facts = x[1]
     if not all([is_known_fact(part, known) for part in facts]):
         return False
-    return len(facts) > 0 and is_closed(facts) and sum([fact[2] for fact in facts]) < 0
+    # A ring without facts is wrong, too: its sum is 0.
+    return is_closed(facts) and sum([fact[2] for fact in facts]) < 0
 
 
 def is_case(x, tables):
