@@ -7,7 +7,7 @@ from laterthemes.cases import all_alternatives
 from laterthemes.claims import require_question
 from laterthemes.errors import InvalidList
 from laterthemes.forms import is_name_list
-from laterthemes.rows import changed, open_names
+from laterthemes.rows import open_names, with_sealed
 from laterthemes.search import decided, layer_for
 
 
@@ -58,11 +58,6 @@ def contains(names, part):
 def meets(names, others):
     """Whether the two have a name in common."""
     return any([name in others for name in names])
-
-
-def with_sealed(settings, names):
-    """The settings, those of these names sealed; they have to be open."""
-    return [changed(setting, ("seal", setting[0])) if setting[0] in names else setting for setting in settings]
 
 
 def evidence_after(settings, conflicts, names):

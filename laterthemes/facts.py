@@ -7,9 +7,14 @@ from laterthemes.forms import is_name, is_whole
 from laterthemes.worth import operand_value
 
 
+def is_zero(x):
+    """Whether this is the whole number 0."""
+    return is_whole(x) and x == 0
+
+
 def is_end(x):
     """Whether this is a name or the whole number 0."""
-    return is_name(x) or (is_whole(x) and x == 0)
+    return is_name(x) or is_zero(x)
 
 
 def is_fact(x):

@@ -25,29 +25,34 @@ def order_and_ring(mentions):
     # A name is a key from the first visit on; its value is whether all behind it is done.
     done = {}
     for start in mentions:
-        path = []
-        # A stack instead of recursion, because a chain of settings may be long.
-        todo = [(start, False)]
-        while todo:
-            name, leaving = todo.pop()
+        # Stacks instead of recursion, because a chain of settings may be long. Each is a tuple of its top and the
+        # rest, not a list: operators run this function, and must not call what a class may have as a method, like pop.
+        path = None
+        todo = ((start, False), None)
+        while todo is not None:
+            (name, leaving), todo = todo
             if leaving:
-                order.append(path.pop())
+                order.append(name)
                 done[name] = True
+                path = path[1]
             elif name not in done:
                 done[name] = False
-                path.append(name)
-                todo.append((name, True))
-                todo.extend([(other, False) for other in mentions[name]])
+                path = (name, path)
+                todo = ((name, True), todo)
+                for other in mentions[name]:
+                    todo = ((other, False), todo)
             elif not done[name]:
                 return order, path_from(name, path)
     return order, None
 
 
 def path_from(name, path):
-    """The part of a path of different names that begins with this one."""
-    # Not by the method index: an error has an attribute of this name, and operators run this function.
-    starts = [at for at, other in enumerate(path) if other == name]
-    return path[starts[0]:]
+    """The list of the names of a path from this one on; the path is a tuple of its last name and the rest."""
+    back = [path[0]]
+    while back[-1] != name:
+        path = path[1]
+        back.append(path[0])
+    return back[::-1]
 
 
 def ranks_of(mentions, order):

@@ -1,7 +1,7 @@
 """The rows of layers: their form, what allows them and what they do."""
 
 from laterthemes.errors import InvalidLayer, NotAllowed
-from laterthemes.forms import is_choice, is_definition, is_known, is_operand, is_whole, names_of
+from laterthemes.forms import copied, is_choice, is_definition, is_known, is_operand, is_whole, names_of
 from laterthemes.mentions import mentioned
 
 
@@ -56,6 +56,12 @@ def changed(setting, row):
     return (name, permission, (definition[0], definition[1] + [row[2]]))
 
 
+def with_sealed(settings, names):
+    """The settings, the open ones of these names sealed."""
+    return [changed(setting, ("seal", setting[0])) if setting[0] in names and setting[1][0] != "sealed" else setting
+            for setting in settings]
+
+
 def settings_after(settings, layer):
     """The settings after all rows of the layer, or the error that the layer causes."""
     if not is_layer(layer, names_of(settings)):
@@ -69,3 +75,20 @@ def settings_after(settings, layer):
             raise NotAllowed(index)
         table[name] = changed(table[name], row)
     return list(table.values())
+
+
+def row_to_assign(setting, worth):
+    """The row that gives a setting a number, the value of another setting, or a definition, as far as it is allowed."""
+    name, permission, _ = setting
+    if permission[0] == "extend":
+        return ("add", name, worth)
+    if is_whole(worth):
+        return ("set", name, ("number", worth))
+    if isinstance(worth, str):
+        return ("set", name, ("plus", worth, 0))
+    return ("set", name, worth)
+
+
+def copied_layer(layer):
+    """An equal layer with lists of its own."""
+    return [("set", row[1], copied(row[2])) if row[0] == "set" else row for row in layer]

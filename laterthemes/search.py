@@ -74,9 +74,14 @@ def search_order(options):
     return [name for _, name in sorted([(len(options[name]), name) for name in options])]
 
 
+def start_values(options):
+    """The values with which a search begins, a number for the end 0 among them."""
+    return {name: 0 for name in [0] + list(options)}
+
+
 def decided(conflicts, options):
     """Evidence, what it needs, and None; or None, None and values for which all facts of a conflict are true."""
-    start = {name: 0 for name in [0] + list(options)}
+    start = start_values(options)
     order = search_order(options)
     evidence = []
     needed = {}

@@ -161,3 +161,75 @@ def subsets(names):
     """All sets of these names as ascending tuples, by their number and then by the names."""
     for count in range(len(names) + 1):
         yield from itertools.combinations(sorted(names), count)
+
+
+def tightened(gaps, facts, ends):
+    """The greatest differences `gaps[x, y]` of x minus y, made right for more facts; None if they cannot all be true."""
+    gaps = dict(gaps)
+    for x, y, k in facts:
+        if gaps.get((y, x), -k) + k < 0:
+            return None
+        for one, other in itertools.product(ends, ends):
+            if (one, x) in gaps and (y, other) in gaps:
+                gap = gaps[one, x] + k + gaps[y, other]
+                gaps[one, other] = min(gap, gaps.get((one, other), gap))
+    return gaps
+
+
+def model_possible(gaps, options, ends):
+    """The greatest differences for each choice of one alternative from each of the options."""
+    if not options:
+        return [gaps]
+    parts = [tightened(gaps, facts, ends) for facts in options[0]]
+    return [row for part in parts if part is not None for row in model_possible(part, options[1:], ends)]
+
+
+def model_stretches(settings, conflicts, one, other):
+    """The stretches of one minus other for possible values with which all facts of a conflict are true."""
+    ends = [0] + [setting[0] for setting in settings]
+    options = [model_alternatives(settings, name) for name in ends[1:]]
+    start = {(end, end): 0 for end in ends}
+    found = [row for conflict in conflicts for row in model_possible(start, [[conflict]] + options, ends)]
+    # Pieces that overlap, or of which one ends beside the other, are put together until none are left.
+    pieces = {(None if (other, one) not in row else -row[other, one], row.get((one, other))) for row in found}
+    pairs = True
+    while pairs:
+        pairs = [(p, q) for p in pieces for q in pieces if p != q and within_reach(p, q) and within_reach(q, p)]
+        if pairs:
+            p, q = pairs[0]
+            lows, highs = [p[0], q[0]], [p[1], q[1]]
+            pieces = pieces - {p, q} | {(None if None in lows else min(lows), None if None in highs else max(highs))}
+    return sorted(pieces, key=lambda piece: (piece[0] is not None, piece[0] or 0))
+
+
+def within_reach(p, q):
+    """Whether q does not begin more than one number behind the end of p."""
+    return p[1] is None or q[0] is None or q[0] <= p[1] + 1
+
+
+def is_stretches(x):
+    """Whether this is an ascending list of stretches, with a number left out between each two."""
+    if type(x) is not list or any(type(part) is not tuple or len(part) != 2 for part in x):
+        return False
+    if any(type(k) is not int and k is not None for part in x for k in part):
+        return False
+    inner = [k for part in x for k in part][1:-1]
+    return (None not in inner and all(low <= high for low, high in x if low is not None and high is not None)
+            and all(inner[at] + 1 < inner[at + 1] for at in range(0, len(inner), 2)))
+
+
+def left_by(low, high, stretches):
+    """What stretches leave of the numbers from low to high, by looking at each number beside an end of them."""
+    def free(number):
+        return all((first is not None and number < first) or (last is not None and number > last) for first, last in stretches)
+
+    def inside(number):
+        return (low is None or low <= number) and (high is None or number <= high)
+
+    if not stretches:
+        return [(low, high)]
+    starts = [None] if low is None and stretches[0][0] is not None else [low] if low is not None and free(low) else []
+    starts += [last + 1 for _, last in stretches if last is not None and inside(last + 1)]
+    ends = [first - 1 for first, _ in stretches if first is not None and inside(first - 1)]
+    ends += [None] if high is None and stretches[-1][1] is not None else [high] if high is not None and free(high) else []
+    return list(zip(starts, ends, strict=True))

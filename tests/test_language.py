@@ -13,104 +13,10 @@ import unittest
 import warnings
 from pathlib import Path
 
-import laterthemes
-
-PACKAGE = Path(laterthemes.__file__).parent
-FILES = sorted(PACKAGE.rglob("*.py"))
-
-NODES = """
-    Module Expr Assign Name Constant Load Store FunctionDef arguments arg ClassDef Return If While For Break Continue Pass
-    Raise Call keyword Attribute Subscript Slice Tuple List Dict BinOp UnaryOp BoolOp Compare IfExp ListComp DictComp SetComp
-    comprehension Add Sub Mult FloorDiv Mod USub Not And Or Eq NotEq Lt LtE Gt GtE Is IsNot In NotIn ImportFrom alias
-    Try ExceptHandler
-""".split()
-DECORATORS = ["property", "staticmethod"]
-MODIFYING = ["append", "clear", "extend", "insert", "pop", "remove", "reverse", "setdefault", "update"]
-BUILTINS = """
-    len range enumerate zip min max sum abs sorted reversed int str bool bytes list tuple dict set frozenset isinstance ord
-    repr any all divmod Exception ValueError TypeError KeyError IndexError LookupError ZeroDivisionError ArithmeticError
-    OverflowError RuntimeError NotImplementedError AttributeError StopIteration NotImplemented
-""".split()
-METHODS = """
-    append clear copy count endswith extend find get index insert isalnum isalpha isdigit islower isspace isupper items join
-    keys ljust lower lstrip partition pop remove replace reverse rfind rjust rpartition rsplit rstrip setdefault split
-    splitlines startswith strip update upper values zfill bit_length title capitalize swapcase casefold center expandtabs
-    removeprefix removesuffix rindex isascii isdecimal isnumeric istitle isidentifier isprintable translate
-""".split()
-SPECIAL = """
-    __init__ __eq__ __repr__ __str__ __len__ __enter__ __exit__ __call__ __iter__ __lt__ __le__ __gt__ __ge__ __ne__ __add__
-    __sub__ __mul__ __and__ __or__ __iadd__ __neg__ __pos__ __invert__ __abs__ __bool__ __contains__ __getitem__ __setitem__
-""".split()
-BARRED_NAMES = """
-    register mro elements open input law version_info with_traceback add_note attrgetter breakpoint builtins compile
-    copyright credits delattr dir eval exec exit gc getattr globals hasattr help id importlib license locals methodcaller os
-    quit setattr super type vars sys format format_map iter next
-""".split()
-BARRED_WORDS = """
-    type typing typing_extensions enum Enum IntEnum StrEnum Flag IntFlag Generic Protocol ABC ABCMeta namedtuple NamedTuple
-    TypedDict TYPE_CHECKING abstractmethod
-""".split()
-BARRED_FILES = "len filter format range sum int property test tests testing site conftest".split()
-
-
-def tree_of(path):
-    return ast.parse(path.read_text(encoding="ascii"))
-
-
-def nodes(kind):
-    """All nodes of a kind, with the place where they stand."""
-    for path in FILES:
-        for node in ast.walk(tree_of(path)):
-            if isinstance(node, kind):
-                yield f"{path.name}:{getattr(node, 'lineno', 0)}", node
-
-
-def module_of(path):
-    parts = list(path.relative_to(PACKAGE.parent).with_suffix("").parts)
-    return ".".join(parts[:-1] if parts[-1] == "__init__" else parts)
-
-
-def names_bound_by(node):
-    """The names that a statement at module level binds."""
-    if isinstance(node, ast.ImportFrom):
-        return [alias.name for alias in node.names]
-    if isinstance(node, ast.Assign):
-        return [target.id for target in node.targets]
-    return [node.name] if isinstance(node, (ast.FunctionDef, ast.ClassDef)) else []
-
-
-def is_docstring(node):
-    return isinstance(node, ast.Expr) and isinstance(node.value, ast.Constant) and isinstance(node.value.value, str)
-
-
-def docstrings(tree):
-    kinds = (ast.Module, ast.FunctionDef, ast.ClassDef)
-    return [node.body[0].value for node in ast.walk(tree)
-            if isinstance(node, kinds) and node.body and is_docstring(node.body[0])]
-
-
-def own_methods():
-    return [item.name for _, item in methods_of_classes()]
-
-
-def methods_of_classes():
-    """All methods, each with the class in which it stands."""
-    for _, node in nodes(ast.ClassDef):
-        yield from [(node, item) for item in node.body if isinstance(item, ast.FunctionDef)]
-
-
-def decorators(function):
-    return [item.id for item in function.decorator_list if isinstance(item, ast.Name)]
-
-
-def stored_attributes():
-    """The names of all attributes that the package assigns."""
-    return {node.attr for _, node in nodes(ast.Attribute) if isinstance(node.ctx, ast.Store)}
-
-
-def call_name(node):
-    """The name of the function or the method that is called."""
-    return node.func.id if isinstance(node.func, ast.Name) else node.func.attr
+from tests.sources import (
+    BARRED_ATTRIBUTES, BARRED_FILES, BARRED_NAMES, BARRED_WORDS, BUILTINS, FILES, METHODS, NODES, PACKAGE, SETTERS,
+    SPECIAL, call_name_of, decorators, docstrings, is_docstring, methods_of_classes, module_of, names_bound_by, nodes,
+    own_methods, stored_attributes, tree_of)
 
 
 class Files(unittest.TestCase):
@@ -225,14 +131,33 @@ class Statements(unittest.TestCase):
             self.assertEqual(node.decorator_list, [], place)
         for place, node in nodes(ast.FunctionDef):
             self.assertEqual(len(decorators(node)), len(node.decorator_list), place)
-            self.assertTrue(decorators(node) in ([], ["property"], ["staticmethod"]), place)
+            self.assertTrue(decorators(node) in ([], ["property"], ["staticmethod"], SETTERS), place)
             if node.decorator_list:
                 self.assertIn(node.name, decorated, place)
-                self.assertEqual(own_methods().count(node.name), 1, place)
+                self.assertEqual(own_methods().count(node.name), len(self.with_setter(node.name)) + 1, place)
                 self.assertNotIn(node.name, sorted(stored_attributes()) + METHODS, place)
-                self.assertFalse(node.args.kwonlyargs, place)
-                self.assertTrue(decorators(node) != ["property"] or [item.arg for item in node.args.args] == ["self"], place)
+                self.assertFalse(node.args.kwonlyargs or node.args.defaults, place)
                 self.assertFalse(node.name.startswith("__"), place)
+                expected = {"property": ["self"], ".setter": ["self", "value"]}.get(decorators(node)[0])
+                self.assertIn(expected, (None, [item.arg for item in node.args.args]), place)
+
+    def with_setter(self, name):
+        return [method for _, method in methods_of_classes() if decorators(method) == SETTERS and method.name == name]
+
+    def test_setters_stand_below_their_properties(self):
+        for place, node in nodes(ast.ClassDef):
+            seen = []
+            for method in [item for item in node.body if isinstance(item, ast.FunctionDef)]:
+                self.assertTrue(decorators(method) != SETTERS or (method.name, ["property"]) in seen, place)
+                seen.append((method.name, decorators(method)))
+
+    def test_properties_are_neither_assigned_nor_called(self):
+        names = {method.name for _, method in methods_of_classes() if decorators(method) == ["property"]}
+        self.assertEqual(names, {"conflicts", "book", "guards"})
+        for place, node in nodes(ast.Attribute):
+            self.assertFalse(isinstance(node.ctx, ast.Store) and node.attr in names, place)
+        for place, node in nodes(ast.Call):
+            self.assertNotIn(getattr(node.func, "attr", None), names, place)
 
     def test_names_alone_after_a_star_in_functions_only(self):
         for _, method in methods_of_classes():
@@ -284,6 +209,9 @@ class Statements(unittest.TestCase):
                     allowed.append(node.iter)
                 if isinstance(node, ast.Call) and isinstance(node.func, ast.Name):
                     allowed += node.args[:1] if node.func.id in ("list", "tuple", "dict", "sorted", "sum", "enumerate") else []
+                    inner = node.args[0] if node.func.id == "reversed" else None
+                    # Of these, reversed(..) takes range(..) only.
+                    allowed += [inner] if call_name_of(inner) == "range" else []
             for node in ast.walk(tree):
                 if isinstance(node, ast.Call):
                     name = node.func.id if isinstance(node.func, ast.Name) else node.func.attr
@@ -317,9 +245,10 @@ class Names(unittest.TestCase):
                     bound.add(node.id)
                 if isinstance(node, ast.arg):
                     bound.add(node.arg)
-            over = [item for node in ast.walk(tree) if isinstance(node, ast.FunctionDef) for item in node.decorator_list]
+            over = [part for node in ast.walk(tree) if isinstance(node, ast.FunctionDef) for item in node.decorator_list
+                    for part in ast.walk(item)]
             read = {node.id for node in ast.walk(tree) if isinstance(node, ast.Name) and isinstance(node.ctx, ast.Load)
-                    and not (node in over and node.id in DECORATORS)}
+                    and node not in over}
             self.assertLessEqual(read - bound, set(BUILTINS), path)
             self.assertNotIn("_", read, path)
 
@@ -335,11 +264,17 @@ class Names(unittest.TestCase):
                     self.assertNotIn(node.id, taken, f"{path.name}:{node.lineno}")
 
     def test_attributes(self):
-        assigned = {node.attr for _, node in nodes(ast.Attribute) if isinstance(node.ctx, ast.Store)}
+        assigned = stored_attributes()
         methods = own_methods()
-        for place, node in nodes(ast.Attribute):
-            self.assertIn(node.attr, sorted(assigned) + methods + METHODS, place)
-            self.assertNotIn(node.attr, BARRED_NAMES, place)
+        for path in FILES:
+            tree = tree_of(path)
+            over = [part for node in ast.walk(tree) if isinstance(node, ast.FunctionDef) for item in node.decorator_list
+                    for part in ast.walk(item)]
+            for node in ast.walk(tree):
+                if isinstance(node, ast.Attribute) and node not in over:
+                    self.assertIn(node.attr, sorted(assigned) + methods + METHODS, f"{path.name}:{node.lineno}")
+                    self.assertNotIn(node.attr, BARRED_NAMES, f"{path.name}:{node.lineno}")
+        self.assertFalse(assigned & set(BARRED_ATTRIBUTES))
 
     def test_called_methods(self):
         called = [(place, node.func) for place, node in nodes(ast.Call) if isinstance(node.func, ast.Attribute)]
@@ -349,7 +284,7 @@ class Names(unittest.TestCase):
 
     def test_no_name_is_a_method_and_an_attribute(self):
         for place, node in nodes(ast.ClassDef):
-            methods = [item.name for item in node.body if isinstance(item, ast.FunctionDef)]
+            methods = [item.name for item in node.body if isinstance(item, ast.FunctionDef) and decorators(item) != SETTERS]
             self.assertEqual(len(methods), len(set(methods)), place)
             attributes = {item.attr for item in ast.walk(node) if isinstance(item, ast.Attribute)
                           and isinstance(item.ctx, ast.Store)}
@@ -376,117 +311,3 @@ class Names(unittest.TestCase):
                 self.assertFalse(node.value.endswith(("._", ".__")), place)
                 self.assertNotRegex(node.value, r"\\", place)
                 self.assertFalse(re.fullmatch("__.*__", node.value), place)
-
-
-def is_new(node, kinds):
-    """Whether an expression is a new object of these kinds, or a call of list, dict or sorted."""
-    if isinstance(node, ast.Call) and isinstance(node.func, ast.Name):
-        return node.func.id in ("list", "dict", "sorted")
-    return isinstance(node, kinds)
-
-
-def made_here(function, kinds):
-    """The local variables that a function assigns a new list or dictionary, and nothing else."""
-    made, other = set(), {item.arg for item in function.args.args + function.args.kwonlyargs}
-    for node in ast.walk(function):
-        if isinstance(node, ast.Assign):
-            for target in node.targets:
-                if isinstance(target, ast.Name) and is_new(node.value, kinds):
-                    made.add(target.id)
-                else:
-                    other |= {item.id for item in ast.walk(target) if isinstance(item, ast.Name)
-                              and isinstance(item.ctx, ast.Store)}
-        if isinstance(node, (ast.For, ast.comprehension)):
-            other |= {item.id for item in ast.walk(node.target) if isinstance(item, ast.Name)}
-    return made - other
-
-
-def run_by_operators():
-    """All functions that operators, properties, `__eq__` and `__len__` run, by their names, with their places.
-
-    A method that is called may be any method of this name; what creates an object runs the `__init__` of its class.
-    """
-    table, start = {}, []
-    for path in FILES:
-        for node in tree_of(path).body:
-            if isinstance(node, ast.FunctionDef):
-                table.setdefault(node.name, []).append((f"{path.name}:{node.lineno}", node))
-    for kind, method in methods_of_classes():
-        label = kind.name if method.name == "__init__" else method.name
-        table.setdefault(label, []).append((f"{kind.name}.{method.name}", method))
-        special = method.name.startswith("__") and method.name not in ("__init__", "__enter__", "__exit__", "__call__")
-        if special and method.name not in ("__setitem__", "__iadd__") or decorators(method) == ["property"]:
-            start.append(method.name)
-    found, todo = {}, start
-    while todo:
-        name = todo.pop()
-        if name not in found:
-            found[name] = table.get(name, [])
-            todo += [call_name(node) for _, function in found[name] for node in ast.walk(function)
-                     if isinstance(node, ast.Call)]
-    return [item for items in found.values() for item in items]
-
-
-class Operators(unittest.TestCase):
-    """What operators and properties run changes nothing but what it made itself, and calls nothing that it is handed."""
-
-    def test_what_operators_run(self):
-        names = {node.name for _, node in run_by_operators()}
-        for name in ("__add__", "__eq__", "__and__", "conflicts", "__init__", "order_and_ring", "all_values", "settings_after",
-                     "is_definition", "are_conflicts", "require_claim", "copied_setting"):
-            self.assertIn(name, names)
-        self.assertFalse(names & {"fitted", "verdict", "breaks", "is_evidence"})
-
-    def assert_modifies_only(self, place, function, made):
-        for node in ast.walk(function):
-            if isinstance(node, ast.Subscript) and isinstance(node.ctx, ast.Store):
-                self.assertIn(getattr(node.value, "id", None), made, place)
-            if isinstance(node, ast.Call) and isinstance(node.func, ast.Attribute) and node.func.attr in MODIFYING:
-                self.assertIn(getattr(node.func.value, "id", None), made, place)
-
-    def test_only_new_lists_are_modified(self):
-        for place, function in nodes(ast.FunctionDef):
-            self.assert_modifies_only(place, function, made_here(function, (ast.List, ast.Dict, ast.ListComp, ast.DictComp)))
-
-    def test_operators_modify_only_what_is_plainly_new(self):
-        """What a dict comprehension makes does not count there."""
-        for place, function in run_by_operators():
-            self.assert_modifies_only(place, function, made_here(function, (ast.List, ast.Dict, ast.ListComp)))
-            if function.name != "__init__":
-                self.assertFalse([node for node in ast.walk(function) if isinstance(node, ast.Attribute)
-                                  and isinstance(node.ctx, ast.Store)], place)
-
-    def test_operators_call_nothing_that_an_object_may_hold(self):
-        """The name of an attribute is no name of a method that an operator runs, whatever the object is."""
-        barred = stored_attributes() | {"index"}
-        self.assertIn("index", barred)
-        for place, function in run_by_operators():
-            for node in ast.walk(function):
-                if isinstance(node, ast.Call) and isinstance(node.func, ast.Attribute):
-                    self.assertNotIn(node.func.attr, barred, place)
-                if isinstance(node, ast.Call) and isinstance(node.func, ast.Name):
-                    self.assertNotIn(node.func.id, [item.arg for item in function.args.args], place)
-
-    def test_attributes_are_set_in_init_only(self):
-        for place, function in nodes(ast.FunctionDef):
-            stored = [node for node in ast.walk(function) if isinstance(node, ast.Attribute)
-                      and isinstance(node.ctx, ast.Store)]
-            self.assertTrue(not stored or function.name == "__init__", place)
-
-    def test_nothing_that_is_passed_is_called(self):
-        for path in FILES:
-            tree = tree_of(path)
-            known = {name for node in tree.body for name in names_bound_by(node)} | set(BUILTINS)
-            for node in ast.walk(tree):
-                if isinstance(node, ast.Call) and isinstance(node.func, ast.Name):
-                    self.assertIn(node.func.id, known, f"{path.name}:{node.lineno}")
-                if isinstance(node, ast.Call):
-                    self.assertIsInstance(node.func, (ast.Name, ast.Attribute), f"{path.name}:{node.lineno}")
-
-    def test_lists_are_passed_to_what_goes_over_them(self):
-        """Beside `__eq__` and operators, `any`, `all`, `min`, `max`, `sum` and `sorted` do not get a generator."""
-        for place, node in nodes(ast.GeneratorExp):
-            self.fail(place)
-        for place, node in nodes(ast.Call):
-            if isinstance(node.func, ast.Name) and node.func.id in ("any", "all", "sum"):
-                self.assertIsInstance(node.args[0], (ast.ListComp, ast.Name, ast.List), place)
