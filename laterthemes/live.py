@@ -12,9 +12,6 @@ class Trial:
 
     def __init__(self, theme):
         self._theme = theme
-        self._stacks = []
-        self._at = 0
-        self._guards = []
 
     def __enter__(self):
         self._stacks = self._theme._stacks

@@ -85,7 +85,8 @@ class Examples(CompareTest):
     def test_of_the_document(self):
         from laterthemes.compare import compare, redundant, settled
         theme = Book(THEME)
-        swapped = Book([theme.setting("ground"), ("text", ("sealed", None, None), ("if", 49, "ground", 90, 10)), theme.setting("link"), theme.setting("edge")])
+        swapped = Book([theme.setting("ground"), ("text", ("sealed", None, None), ("if", 49, "ground", 90, 10)),
+                        theme.setting("link"), theme.setting("edge")])
         wide = Book(theme.settings() + [("rim", ("sealed", None, None), ("max", ["text", 10, 9]))])
         self.assertEqual([compare(theme, swapped)[0], redundant(wide), settled(wide)],
                          ["equivalent", [("rim", 1), ("rim", 2)], ["ground"]])
@@ -111,7 +112,8 @@ class PairBooks(unittest.TestCase):
             self.assertEqual(swapped[-1], ("z", sealed[name], one[at][2]))
 
     def test_the_name_of_the_new_setting(self):
-        for names, new in [("a", "z"), ("z", "zz"), (["zz"], "z"), (["z", "zz"], "zzz"), (["zzz", "z"], "zz"), (["a", "zz", "zzz", "z"], "zzzz"),
+        for names, new in [("a", "z"), ("z", "zz"), (["zz"], "z"), (["z", "zz"], "zzz"), (["zzz", "z"], "zz"),
+                           (["a", "zz", "zzz", "z"], "zzzz"),
                            (["z" * count for count in range(1, 9)], "z" * 9), (["zy", "za"], "z")]:
             book = Book([(name, FREE, ("number", 1)) for name in names])
             for name in names:
@@ -151,7 +153,8 @@ def alike(maker, settings):
         if permission[0] == "choice":
             new = ("plus", maker.dice.choice(permission[1]), 0)
         if permission[0] == "extend" or definition[0] in ("max", "min") and maker.dice.random() < 0.5:
-            new = (definition[0], maker.dice.sample(definition[1], len(definition[1])) + maker.operands(names[:at])[:maker.dice.randint(0, 1)])
+            new = (definition[0],
+                   maker.dice.sample(definition[1], len(definition[1])) + maker.operands(names[:at])[:maker.dice.randint(0, 1)])
         others.append((name, permission, new))
     return settings, others
 
@@ -276,14 +279,15 @@ class CheckEquivalent(unittest.TestCase):
         self.assert_is(False, ("equivalent", self.shown))
         for order in itertools.permutations(range(4)):
             if order != (0, 1, 2, 3):
-                names = [THEME[at][0] for at in order]
-                self.assert_is(all(check_evidence(pair_book(self.one, self.other, name), Claim.equal(name, "z"), self.shown[at])
-                                   for at, (name, _, _) in zip(order, THEME)), [self.shown[at] for at in order])
-                self.assertEqual(len(names), 4)
+                shown = [self.shown[at] for at in order]
+                expected = [check_evidence(pair_book(self.one, self.other, name), Claim.equal(name, "z"), evidence)
+                            for (name, _, _), evidence in zip(THEME, shown)]
+                self.assert_is(all(expected), shown)
 
     def test_other_evidence_is_right_as_well(self):
         """Any evidence will do, also one with more cases than needed."""
-        widened = [[("case", "ground", [("case", "text", [tree] * 2)]) if name != "text" else ("case", "ground", [tree]) for tree in evidence]
+        widened = [[("case", "ground",
+                     [("case", "text", [tree] * 2)]) if name != "text" else ("case", "ground", [tree]) for tree in evidence]
                    for (name, _, _), evidence in zip(THEME, self.shown)]
         self.assert_is(True, widened)
         self.assert_is(False, [[("case", "ground", [tree] * 2) for tree in evidence] for evidence in self.shown])
@@ -315,13 +319,15 @@ class CheckDifferent(unittest.TestCase):
         self.assert_is(True, [grey])
         self.assert_is(True, [grey, ("seal", "ground"), ("add", "edge", "link")])
         self.assert_is(True, [("set", "ground", ("number", 3)), ("set", "ground", ("max", [50, 1]))])
-        for layer in [[], [("set", "ground", ("number", 49))], [("set", "ground", ("number", 51))], [grey, ("set", "ground", ("number", 90))]]:
+        for layer in [[], [("set", "ground", ("number", 49))], [("set", "ground", ("number", 51))],
+                      [grey, ("set", "ground", ("number", 90))]]:
             self.assert_is(False, layer)
         self.assert_is(False, [grey], THEME, SWAPPED)
 
     def test_layers_that_are_not_allowed(self):
         grey = ("set", "ground", ("number", 50))
-        for layer in [[grey, ("seal", "text")], [("seal", "ground"), grey], [grey, ("add", "edge", "ground")], [grey, ("add", "link", 3)],
+        for layer in [[grey, ("seal", "text")], [("seal", "ground"), grey], [grey, ("add", "edge", "ground")],
+                      [grey, ("add", "link", 3)],
                       [grey, ("set", "text", ("number", 3))]]:
             self.assert_is(False, layer)
 
@@ -332,10 +338,12 @@ class CheckDifferent(unittest.TestCase):
 
     def test_any_object(self):
         grey = ("set", "ground", ("number", 50))
-        for odd in odd_objects() + [(grey,), grey, [list(grey)], [grey, None], [grey, ["seal", "ground"]], [("set", "ground", ("number", True))],
+        for odd in odd_objects() + [(grey,), grey, [list(grey)], [grey, None], [grey, ["seal", "ground"]],
+                                    [("set", "ground", ("number", True))],
                                     [grey, ("seal", "no")], [[grey]], {0: grey}, [("set", "ground", ["number", 50])]]:
             self.assert_is(False, odd)
-            self.assertIs(check_different(Book([("a", SEALED, ("number", 1))]), Book([("a", SEALED, ("number", 2))]), odd), odd == [])
+            self.assertIs(check_different(Book([("a", SEALED, ("number", 1))]), Book([("a", SEALED, ("number", 2))]), odd),
+                          odd == [])
 
     def test_against_a_reckoning(self):
         maker = Maker(104)
@@ -388,15 +396,20 @@ class Settled(unittest.TestCase):
         base = [("a", ("free", 2, 9, []), ("number", 50)), ("k", SEALED, ("number", 4))]
         for permission, definition, is_settled in [
                 (SEALED, ("number", 7), True), (("sealed", 3, 5), ("number", 7), True), (SEALED, ("plus", "k", 3), True),
-                (SEALED, ("plus", "a", 3), False), (("sealed", None, 2), ("plus", "a", 3), True), (("sealed", 12, None), ("plus", "a", 3), True),
-                (("sealed", 11, None), ("plus", "a", 3), False), (SEALED, ("max", ["a", 9]), True), (SEALED, ("max", ["a", 8]), False),
-                (SEALED, ("min", [2, "a"]), True), (SEALED, ("if", "a", 2, 6, "a"), True), (SEALED, ("if", "a", 3, 6, "a"), False),
+                (SEALED, ("plus", "a", 3), False), (("sealed", None, 2), ("plus", "a", 3), True),
+                (("sealed", 12, None), ("plus", "a", 3), True),
+                (("sealed", 11, None), ("plus", "a", 3), False), (SEALED, ("max", ["a", 9]), True),
+                (SEALED, ("max", ["a", 8]), False),
+                (SEALED, ("min", [2, "a"]), True), (SEALED, ("if", "a", 2, 6, "a"), True),
+                (SEALED, ("if", "a", 3, 6, "a"), False),
                 (SEALED, ("if", "a", 3, 4, "k"), True), (SEALED, ("if", "a", "a", "k", "a"), True),
-                (("free", 0, 9, ["a"]), ("number", 7), True), (("free", 0, 9, ["a"]), ("number", 17), True), (FREE, ("plus", "a", 0), False),
+                (("free", 0, 9, ["a"]), ("number", 7), True), (("free", 0, 9, ["a"]), ("number", 17), True),
+                (FREE, ("plus", "a", 0), False),
                 (("free", None, 2, []), ("plus", "a", 0), True), (("free", 0, 9, ["a"]), ("plus", "k", 0), True),
                 (("choice", ["k", "a"]), ("plus", "k", 0), True), (("choice", ["k", "a"]), ("plus", "a", 0), False),
                 (("extend", ["a"]), ("max", ["k", 3]), True), (("extend", ["a"]), ("max", ["a", 3]), False),
-                (("extend", ["a"]), ("max", ["a", 9]), True), (("extend", []), ("min", ["a", 2]), True), (("extend", []), ("min", ["a", 3]), False)]:
+                (("extend", ["a"]), ("max", ["a", 9]), True), (("extend", []), ("min", ["a", 2]), True),
+                (("extend", []), ("min", ["a", 3]), False)]:
             for settings in (base + [("s", permission, definition)], [("s", permission, definition)] + base):
                 with self.subTest(permission=permission, definition=definition):
                     frozen = self.assert_settled(["a", "k", "s"] if is_settled else ["a", "k"], settings)
@@ -437,7 +450,8 @@ class Settled(unittest.TestCase):
                 self.assert_equivalent(settings, self.assert_settled(found, settings))
 
     def test_long_numbers(self):
-        settings = [("a", ("free", -BIG, BIG, []), ("number", BIG)), ("b", SEALED, ("plus", "c", BIG)), ("c", SEALED, ("number", BIG))]
+        settings = [("a", ("free", -BIG, BIG, []), ("number", BIG)), ("b", SEALED, ("plus", "c", BIG)),
+                    ("c", SEALED, ("number", BIG))]
         self.assertEqual(self.assert_settled(["a", "b", "c"], settings)["b"], 2 * BIG)
 
 
@@ -491,12 +505,18 @@ class Redundant(unittest.TestCase):
         base = [("a", ("free", 2, 9, []), ("number", 5)), ("b", SEALED, ("plus", "a", 3))]
         for permission, definition, expected in [
                 (SEALED, ("max", ["a", "b"]), [0]), (SEALED, ("min", ["a", "b"]), [1]), (SEALED, ("max", ["a", "a"]), [0, 1]),
-                (SEALED, ("max", ["a", 2]), [1]), (SEALED, ("max", ["a", 3]), []), (SEALED, ("max", ["a", 9]), [0]), (SEALED, ("max", ["a", 8]), []),
-                (SEALED, ("min", [2, "a", 1]), [0, 1]), (("sealed", 3, 4), ("max", ["a", 3]), [1]), (("sealed", 3, 4), ("max", [3, "a"]), [0]),
-                (("sealed", 3, 3), ("max", ["a", 3]), [0, 1]), (("sealed", 3, 4), ("min", ["b", 3]), [0]), (FREE, ("max", [4, 7]), [0]),
-                (FREE, ("max", [7, 7, 4]), [0, 1, 2]), (("free", 8, 9, []), ("max", [4, 7]), [0, 1]), (("free", 6, 9, ["a"]), ("min", ["a", 7]), []),
-                (("extend", ["a"]), ("max", ["a", "b"]), [0]), (("extend", ["b"]), ("min", [6, "b", 6]), [0, 2]), (("extend", []), ("max", ["a", 3]), []),
-                (SEALED, ("max", ["a", 5, "a", 4]), [0, 2, 3]), (SEALED, ("if", "a", 0, "b", "b"), []), (SEALED, ("plus", "a", 0), []),
+                (SEALED, ("max", ["a", 2]), [1]), (SEALED, ("max", ["a", 3]), []), (SEALED, ("max", ["a", 9]), [0]),
+                (SEALED, ("max", ["a", 8]), []),
+                (SEALED, ("min", [2, "a", 1]), [0, 1]), (("sealed", 3, 4), ("max", ["a", 3]), [1]),
+                (("sealed", 3, 4), ("max", [3, "a"]), [0]),
+                (("sealed", 3, 3), ("max", ["a", 3]), [0, 1]), (("sealed", 3, 4), ("min", ["b", 3]), [0]),
+                (FREE, ("max", [4, 7]), [0]),
+                (FREE, ("max", [7, 7, 4]), [0, 1, 2]), (("free", 8, 9, []), ("max", [4, 7]), [0, 1]),
+                (("free", 6, 9, ["a"]), ("min", ["a", 7]), []),
+                (("extend", ["a"]), ("max", ["a", "b"]), [0]), (("extend", ["b"]), ("min", [6, "b", 6]), [0, 2]),
+                (("extend", []), ("max", ["a", 3]), []),
+                (SEALED, ("max", ["a", 5, "a", 4]), [0, 2, 3]), (SEALED, ("if", "a", 0, "b", "b"), []),
+                (SEALED, ("plus", "a", 0), []),
                 (SEALED, ("max", [1, 2, 3, 4, 5, 12]), [0, 1, 2, 3, 4]), (SEALED, ("max", ["a", "b", 12]), [0, 1])]:
             with self.subTest(permission=permission, definition=definition):
                 self.assert_redundant([("s", at) for at in expected], base + [("s", permission, definition)])
@@ -506,14 +526,17 @@ class Redundant(unittest.TestCase):
         """Of two equal operands each is redundant, and one stays."""
         settings = [("a", FREE, ("number", 0)), ("s", SEALED, ("max", ["a", "a", "a"])), ("t", SEALED, ("min", [4, 4]))]
         self.assert_redundant([("s", 0), ("s", 1), ("s", 2), ("t", 0), ("t", 1)], settings)
-        self.assertEqual(trim(Book(settings)).settings(), [settings[0], ("s", SEALED, ("max", ["a"])), ("t", SEALED, ("min", [4]))])
+        self.assertEqual(trim(Book(settings)).settings(),
+                         [settings[0], ("s", SEALED, ("max", ["a"])), ("t", SEALED, ("min", [4]))])
 
     def test_the_order_of_the_places(self):
-        settings = [("d", SEALED, ("max", [1] * 11)), ("b", SEALED, ("min", [1, 1])), ("aa", SEALED, ("max", [3, 3])), ("a", SEALED, ("max", [2, 1]))]
+        settings = [("d", SEALED, ("max", [1] * 11)), ("b", SEALED, ("min", [1, 1])), ("aa", SEALED, ("max", [3, 3])),
+                    ("a", SEALED, ("max", [2, 1]))]
         self.assert_redundant([("a", 1), ("aa", 0), ("aa", 1), ("b", 0), ("b", 1)] + [("d", at) for at in range(11)], settings)
 
     def test_operands_of_several_settings(self):
-        settings = [("a", ("free", 0, 9, []), ("number", 5)), ("b", SEALED, ("max", ["a", 0])), ("c", SEALED, ("min", ["a", "b", 9])),
+        settings = [("a", ("free", 0, 9, []), ("number", 5)), ("b", SEALED, ("max", ["a", 0])),
+                    ("c", SEALED, ("min", ["a", "b", 9])),
                     ("d", SEALED, ("max", ["b", "c"]))]
         self.assert_redundant([("b", 1), ("c", 0), ("c", 1), ("c", 2), ("d", 0), ("d", 1)], settings)
 
@@ -578,8 +601,10 @@ class Matching(unittest.TestCase):
         self.assert_mismatched([("a", FREE, ("number", 1))], [("aa", FREE, ("number", 1))])
 
     def test_permissions(self):
-        permissions = [FREE, ("free", 0, None, []), ("free", None, 0, []), ("free", 0, 1, []), ("free", 0, 2, []), ("free", None, None, ["b"]),
-                       ("free", None, None, ["b", "c"]), ("free", None, None, ["c", "b"]), SEALED, ("sealed", 0, None), ("sealed", 0, 1),
+        permissions = [FREE, ("free", 0, None, []), ("free", None, 0, []), ("free", 0, 1, []), ("free", 0, 2, []),
+                       ("free", None, None, ["b"]),
+                       ("free", None, None, ["b", "c"]), ("free", None, None, ["c", "b"]), SEALED, ("sealed", 0, None),
+                       ("sealed", 0, 1),
                        ("choice", ["b"]), ("choice", ["b", "c"]), ("choice", ["c", "b"])]
         base = [("b", FREE, ("number", 1)), ("c", FREE, ("number", 1))]
         for one, other in itertools.product(permissions, permissions):
@@ -628,7 +653,8 @@ class NewLists(unittest.TestCase):
             if max(model_size(one), model_size(other)) > 60:
                 continue
             first, second = Book(copy.deepcopy(one)), Book(copy.deepcopy(other))
-            for call in (lambda: compare(first, second)[1], lambda: compare(first, first)[1], lambda: settled(first), lambda: redundant(first)):
+            for call in (lambda: compare(first, second)[1], lambda: compare(first, first)[1], lambda: settled(first),
+                         lambda: redundant(first)):
                 expected = repr(call())
                 result = call()
                 for part in result:

@@ -110,9 +110,11 @@ class Reading(LiveTest):
     def test_verdicts(self):
         live = Live(theme())
         changing = Claim.at_least("ground", 0, 1)
-        self.assertEqual([live(READABLE), live(DARK), live(Claim([])), live(claim=changing)], ["sure", "breaks", "sure", "breaks"])
+        self.assertEqual([live(READABLE), live(DARK), live(Claim([])), live(claim=changing)],
+                         ["sure", "breaks", "sure", "breaks"])
         live.push([("set", "ground", ("number", 30)), ("seal", "ground")])
-        self.assertEqual([live(READABLE), live(DARK), live(Claim.equal("text", 0)), live(changing)], ["sure", "sure", "breaks", "sure"])
+        self.assertEqual([live(READABLE), live(DARK), live(Claim.equal("text", 0)), live(changing)],
+                         ["sure", "sure", "breaks", "sure"])
         live.undo()
         self.assertEqual([live(READABLE), live(DARK), live(changing)], ["sure", "breaks", "breaks"])
         for odd in odd_objects():
@@ -165,7 +167,8 @@ class Changes(LiveTest):
             if layer != []:
                 for call in (live.push, add):
                     self.assertIs(self.assert_unchanged(live, InvalidLayer, "value", layer, call, layer), layer)
-        for layer, index in [(NIGHT, 0), ([("add", "edge", 1), ("seal", "text")], 1), (WIDE + [("seal", "edge"), ("add", "edge", 1)], 3),
+        for layer, index in [(NIGHT, 0), ([("add", "edge", 1), ("seal", "text")], 1),
+                             (WIDE + [("seal", "edge"), ("add", "edge", 1)], 3),
                              ([("add", "edge", "ground")], 0), ([("set", "link", ("plus", "ground", 0))], 0)]:
             for call in (live.push, add):
                 self.assert_unchanged(live, NotAllowed, "index", index, call, layer)
@@ -176,11 +179,14 @@ class Changes(LiveTest):
         cases = [
             ("ground", 30, ("set", "ground", ("number", 30)), 30), ("ground", 300, ("set", "ground", ("number", 300)), 100),
             ("ground", -1, ("set", "ground", ("number", -1)), 0), ("link", "text", ("set", "link", ("plus", "text", 0)), 10),
-            ("link", ("plus", "text", 5), ("set", "link", ("plus", "text", 5)), 15), ("link", ("number", 4), ("set", "link", ("number", 4)), 4),
+            ("link", ("plus", "text", 5), ("set", "link", ("plus", "text", 5)), 15),
+            ("link", ("number", 4), ("set", "link", ("number", 4)), 4),
             ("link", ("max", ["text", 40]), ("set", "link", ("max", ["text", 40])), 40),
             ("link", ("if", "text", 10, 1, 2), ("set", "link", ("if", "text", 10, 1, 2)), 1),
-            ("pick", "ground", ("set", "pick", ("plus", "ground", 0)), 95), ("pick", ("plus", "k", 0), ("set", "pick", ("plus", "k", 0)), 0),
-            ("edge", 60, ("add", "edge", 60), 60), ("edge", "link", ("add", "edge", "link"), 30), ("low", -3, ("add", "low", -3), -3),
+            ("pick", "ground", ("set", "pick", ("plus", "ground", 0)), 95),
+            ("pick", ("plus", "k", 0), ("set", "pick", ("plus", "k", 0)), 0),
+            ("edge", 60, ("add", "edge", 60), 60), ("edge", "link", ("add", "edge", "link"), 30),
+            ("low", -3, ("add", "low", -3), -3),
             ("low", "k", ("add", "low", "k"), 0), ("k", 10 ** 39, ("set", "k", ("number", 10 ** 39)), 10 ** 39)]
         for name, value, row, result in cases:
             live = Live(Book(settings))
@@ -217,8 +223,10 @@ class Changes(LiveTest):
                 expected = [("set", name, ("plus", value, 0) if isinstance(value, str) else value)]
                 self.assert_unchanged(live, InvalidLayer, "value", expected, live.__setitem__, name, value)
         self.assert_unchanged(live, InvalidLayer, "value", [("set", "link", ("max", []))], live.__setitem__, "link", ("max", []))
-        self.assert_unchanged(live, InvalidLayer, "value", [("add", "edge", ("number", 3))], live.__setitem__, "edge", ("number", 3))
-        for name, value in [("text", 3), ("text", "ground"), ("text", ("number", 3)), ("link", "ground"), ("edge", "ground"), ("edge", "edge"),
+        self.assert_unchanged(live, InvalidLayer, "value", [("add", "edge", ("number", 3))], live.__setitem__, "edge",
+                              ("number", 3))
+        for name, value in [("text", 3), ("text", "ground"), ("text", ("number", 3)), ("link", "ground"), ("edge", "ground"),
+                            ("edge", "edge"),
                             ("ground", "text"), ("link", ("plus", "link", 0))]:
             self.assert_unchanged(live, NotAllowed, "index", 0, live.__setitem__, name, value)
 
@@ -259,7 +267,8 @@ class Changes(LiveTest):
         return settings
 
     def test_a_new_change_forgets_what_was_taken_back(self):
-        for change in (lambda live: live.push([]), lambda live: live.pop(), lambda live: live.__setitem__("ground", 3), lambda live: live.__iadd__([])):
+        for change in (lambda live: live.push([]), lambda live: live.pop(), lambda live: live.__setitem__("ground", 3),
+                       lambda live: live.__iadd__([])):
             live = Live(theme())
             for layer in (NIGHT, WIDE, SEAL):
                 live.push(layer)
@@ -325,7 +334,8 @@ class Guards(LiveTest):
         live.guards = [READABLE]
         unknown = Claim([[("ground", "text", 0)], [(0, "no", 0), ("yes", 0, 0)]])
         later = Claim([[("ever", 0, 0)]])
-        for claims in [[unknown], [READABLE, unknown, later], [DARK, unknown], [unknown, DARK, later], [DARK, READABLE, unknown, READABLE]]:
+        for claims in [[unknown], [READABLE, unknown, later], [DARK, unknown], [unknown, DARK, later],
+                       [DARK, READABLE, unknown, READABLE]]:
             for call in (live.guard, lambda claims: setattr(live, "guards", claims)):
                 self.assert_unchanged(live, UnknownName, "name", "no", call, claims)
         self.assert_unchanged(live, UnknownName, "name", "ever", live.guard, [DARK, later, unknown])
@@ -440,8 +450,10 @@ class Trials(LiveTest):
     ACTIONS = [
         lambda live: live.push([]), lambda live: live.pop(), lambda live: live.undo(), lambda live: live.redo(),
         lambda live: live.guard([]), lambda live: setattr(live, "guards", [DARK]), lambda live: live.__setitem__("link", 3),
-        lambda live: live.__iadd__(WIDE), lambda live: [live.undo(), live.undo()], lambda live: [live.undo(), live.push(WIDE), live.undo()],
-        lambda live: [live.pop(), live.pop(), live.push(SEAL)], lambda live: [live.redo(), live.redo(), live.pop()], lambda live: None]
+        lambda live: live.__iadd__(WIDE), lambda live: [live.undo(), live.undo()],
+        lambda live: [live.undo(), live.push(WIDE), live.undo()],
+        lambda live: [live.pop(), live.pop(), live.push(SEAL)], lambda live: [live.redo(), live.redo(), live.pop()],
+        lambda live: None]
 
     def test_all_is_as_it_was(self):
         for one, other in itertools.product(self.ACTIONS, self.ACTIONS):
@@ -689,7 +701,8 @@ class Reckoned(LiveTest):
                     try:
                         outcomes.append(getattr(target, call)(*copy.deepcopy(arguments) if call != "guard" else arguments))
                     except ThemeError as error:
-                        outcomes.append((type(error).__name__, repr(vars(error)) if not isinstance(error, BrokenClaim) else id(error.claim)))
+                        outcomes.append((type(error).__name__,
+                                         repr(vars(error)) if not isinstance(error, BrokenClaim) else id(error.claim)))
                 self.assertEqual(repr(outcomes[0]), repr(outcomes[1]), call)
                 word = outcomes[0][0] if isinstance(outcomes[0], tuple) else call
                 seen[word] = seen.get(word, 0) + 1
@@ -697,20 +710,24 @@ class Reckoned(LiveTest):
                 self.assertEqual(live.book.settings(), model.settings())
                 self.assertEqual(len(live), len(model.stack()))
                 self.assertEqual([id(claim) for claim in live.guards], [id(claim) for claim in model.claims])
-        for word in ("push", "pop", "undo", "redo", "guard", "__setitem__", "BrokenClaim", "NothingToUndo", "NotAllowed", "InvalidLayer", "UnknownName"):
+        for word in ("push", "pop", "undo", "redo", "guard", "__setitem__", "BrokenClaim", "NothingToUndo", "NotAllowed",
+                     "InvalidLayer", "UnknownName"):
             self.assertGreater(seen.get(word, 0), 20, word)
 
     def chosen(self, maker, settings, model):
         names = [setting[0] for setting in settings]
-        call = maker.dice.choice(["push", "push", "push", "pop", "undo", "undo", "redo", "redo", "guard", "__setitem__", "__setitem__"])
+        call = maker.dice.choice(["push", "push", "push", "pop", "undo", "undo", "redo", "redo", "guard", "__setitem__",
+                                  "__setitem__"])
         if call == "push":
             return call, [maker.dice.choice([maker.allowed_layer(settings)[:2], maker.layer(settings)[:2]])]
         if call == "guard":
-            holding = [claim for claim in [maker.claim(names, 2, 2) for _ in range(6)] if model_holds(claim.conflicts, model_values(model.settings()))]
+            values, claims = model_values(model.settings()), [maker.claim(names, 2, 2) for _ in range(6)]
+            holding = [claim for claim in claims if model_holds(claim.conflicts, values)]
             return call, [holding[:2] if maker.dice.random() < 0.8 else [maker.claim(names, 2, 1)]]
         if call == "__setitem__":
             name = maker.dice.choice(names + ["none"])
-            return call, [name, maker.dice.choice([maker.number(), maker.dice.choice(names + ["none"]), maker.definition(names), None, True])]
+            values = [maker.number(), maker.dice.choice(names + ["none"]), maker.definition(names), None, True]
+            return call, [name, maker.dice.choice(values)]
         return call, []
 
 

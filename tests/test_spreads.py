@@ -9,7 +9,8 @@ from laterthemes.errors import InvalidBook, InvalidClaim, InvalidNumber, Unknown
 from laterthemes.spreads import layer_to, risk, safe_limits, spread
 from laterthemes.verdicts import verdict
 from tests.reckoning import (
-    is_stretches, left_by, model_breaks, model_end, model_holds, model_sealed, model_size, model_stretches, open_names, plain_layers)
+    is_stretches, left_by, model_breaks, model_end, model_holds, model_sealed, model_size, model_stretches, open_names,
+    plain_layers)
 from tests.samples import NOT_WHOLE
 from tests.support import THEME, Maker, SmallMaker, model_after, model_values, odd_objects, theme
 
@@ -23,8 +24,7 @@ CONTRAST = Claim.contrast("text", "ground", 45)
 
 def wrong_ends():
     """Objects that are neither 0 nor the name of a setting of the theme."""
-    known = (0, "ground")
-    odd = [value for value in odd_objects() if isinstance(value, bool) or not any(value is end or value == end for end in known)]
+    odd = [value for value in odd_objects() if isinstance(value, bool) or value not in (0, "ground")]
     return odd + ["no", "Ground", "grounds", "", "0", 1, -1, BIG, False, ["ground"], ("ground",), [0], (0,), {0: 0}, None]
 
 
@@ -42,7 +42,9 @@ class Examples(unittest.TestCase):
         from laterthemes.spreads import layer_to, risk, safe_limits, spread
         theme = Book(THEME)
         self.assertEqual(
-            [spread(theme, "text"), spread(theme, "text", "ground"), spread(theme, "edge"), risk(theme, Claim.contrast("text", "ground", 45), "ground"), layer_to(theme, "text", "ground", 0), safe_limits(theme, Claim.contrast("text", "ground", 45) & Claim.at_most("ground", 0, 90), "ground")],
+            [spread(theme, "text"), spread(theme, "text", "ground"), spread(theme, "edge"),
+             risk(theme, Claim.contrast("text", "ground", 45), "ground"), layer_to(theme, "text", "ground", 0),
+             safe_limits(theme, Claim.contrast("text", "ground", 45) & Claim.at_most("ground", 0, 90), "ground")],
             [[(10, 10), (90, 90)], [(-90, -40), (41, 90)], [(30, None)], [(46, 54)], None, [(0, 45), (55, 90)]])
 
 
@@ -53,7 +55,8 @@ class SpreadTest(unittest.TestCase):
         result = spread(book, *ends)
         self.assertEqual(result, expected)
         self.assertTrue(is_stretches(result), result)
-        self.assertEqual(spread(*ends[1:], one=ends[0], book=book) if len(ends) == 1 else spread(other=ends[1], one=ends[0], book=book),
+        self.assertEqual(spread(*ends[1:], one=ends[0],
+                                book=book) if len(ends) == 1 else spread(other=ends[1], one=ends[0], book=book),
                          expected)
         # The claim that never holds risks everything, and the one that always holds nothing.
         self.assertEqual(risk(book, NEVER, *ends), expected)
@@ -105,12 +108,14 @@ class Spreads(SpreadTest):
                 (("extend", []), ("max", ["a", -3]), [(2, None)]), (("extend", ["b"]), ("min", ["a", 5]), [(None, 5)]),
                 (("extend", []), ("max", [7, "a"]), [(7, None)]), (SEALED, ("number", 6), [(6, 6)]),
                 (("sealed", 7, 9), ("number", 6), [(7, 7)]), (("sealed", 7, 9), ("plus", "a", 0), [(7, 9)]),
-                (SEALED, ("plus", "a", -4), [(-2, 5)]), (SEALED, ("max", ["a", 4]), [(4, 9)]), (SEALED, ("min", ["a", "b"]), [(None, 9)]),
+                (SEALED, ("plus", "a", -4), [(-2, 5)]), (SEALED, ("max", ["a", 4]), [(4, 9)]),
+                (SEALED, ("min", ["a", "b"]), [(None, 9)]),
                 (SEALED, ("if", "a", 5, 0, 7), [(0, 0), (7, 7)]), (SEALED, ("if", "a", 10, 0, "b"), [(None, 20)]),
                 (SEALED, ("if", "a", 6, "a", 1), [(1, 1), (6, 9)]), (("sealed", 3, 8), ("if", "a", 6, "a", 1), [(3, 3), (6, 8)])]:
             with self.subTest(permission=permission, definition=definition):
                 self.assert_spread(expected, base + [("s", permission, definition)], "s")
-                self.assert_spread([(None if high is None else -high, None if low is None else -low) for low, high in expected][::-1],
+                self.assert_spread([(None if high is None else -high, None if low is None else -low) for low,
+                                    high in expected][::-1],
                                    [("s", permission, definition)] + base, 0, "s")
 
     def test_ends(self):
@@ -141,7 +146,8 @@ class Spreads(SpreadTest):
 
     def test_stretches_that_meet_are_one(self):
         """Between two stretches one number at least is not possible."""
-        for first, second, expected in [(2, 3, [(1, 4)]), (1, 4, [(1, 4)]), (4, 6, [(1, 6)]), (5, 6, [(1, 6)]), (6, 7, [(1, 4), (6, 7)]),
+        for first, second, expected in [(2, 3, [(1, 4)]), (1, 4, [(1, 4)]), (4, 6, [(1, 6)]), (5, 6, [(1, 6)]),
+                                        (6, 7, [(1, 4), (6, 7)]),
                                         (-1, 0, [(-1, 4)]), (-2, -1, [(-2, -1), (1, 4)]), (0, 5, [(0, 5)]), (5, 5, [(1, 5)]),
                                         (6, 6, [(1, 4), (6, 6)]), (-1, 1, [(-1, 4)]), (0, 0, [(0, 4)])]:
             settings = [("a", ("free", 1, 4, []), ("number", 1)), ("b", ("free", first, second, []), ("number", 0)),
@@ -166,9 +172,11 @@ class Spreads(SpreadTest):
 
     def test_stretches_without_an_end(self):
         base = [("a", ("free", None, 3, []), ("number", 0)), ("b", ("free", 7, None, []), ("number", 0)),
-                ("c", ("free", 5, 5, []), ("number", 0)), ("d", ("free", 4, None, []), ("number", 0)), ("e", ("free", None, 9, []), ("number", 0))]
+                ("c", ("free", 5, 5, []), ("number", 0)), ("d", ("free", 4, None, []), ("number", 0)),
+                ("e", ("free", None, 9, []), ("number", 0))]
         for names, expected in [("ab", [(None, 3), (7, None)]), ("abc", [(None, 3), (5, 5), (7, None)]), ("ad", [(None, None)]),
-                                ("be", [(None, None)]), ("ac", [(None, 3), (5, 5)]), ("cb", [(5, 5), (7, None)]), ("bd", [(4, None)]),
+                                ("be", [(None, None)]), ("ac", [(None, 3), (5, 5)]), ("cb", [(5, 5), (7, None)]),
+                                ("bd", [(4, None)]),
                                 ("ae", [(None, 9)]), ("bdc", [(4, None)]), ("cae", [(None, 9)]), ("abcde", [(None, None)])]:
             self.assert_spread(expected, base + [("s", ("choice", list(names)), ("plus", names[0], 0))], "s")
 
@@ -209,7 +217,8 @@ class Risks(SpreadTest):
         for count in range(5):
             for chosen in itertools.combinations(range(4), count):
                 numbers = sorted({n for at in chosen for n in ([0, 1, 2, 3], [5], [18, 19, 20], [])[at]})
-                self.assertEqual(sum(([*range(low, high + 1)] for low, high in risk(Book(settings), Claim([parts[at] for at in chosen]), "a")), []), numbers)
+                self.assertEqual(sum(([*range(low, high + 1)] for low,
+                                      high in risk(Book(settings), Claim([parts[at] for at in chosen]), "a")), []), numbers)
         self.assert_risk([(0, 3), (5, 5), (18, 20)], settings, Claim(parts), "a")
         self.assert_risk([(0, 3), (5, 5), (18, 20)], settings, Claim(parts[::-1]), "a")
         self.assert_risk([(0, 20)], settings, Claim(parts), "b")
@@ -238,8 +247,10 @@ class LayersTo(SpreadTest):
     def test_any_kind_of_open_setting(self):
         settings = [("a", ("free", 0, 9, []), ("number", 0)), ("b", ("choice", ["a", "e"]), ("plus", "a", 0)),
                     ("c", ("extend", []), ("max", ["b", 2])), ("d", SEALED, ("min", ["c", 6])), ("e", SEALED, ("number", 30))]
-        for one, other, numbers in [("a", 0, range(0, 10)), ("b", 0, [*range(0, 10), 30]), ("c", 0, range(2, 60)), ("d", 0, range(2, 7)),
-                                    ("b", "a", [0, *range(21, 31)]), ("d", "c", range(-40, 1)), ("e", "a", range(21, 31)), (0, "e", [-30])]:
+        for one, other, numbers in [("a", 0, range(0, 10)), ("b", 0, [*range(0, 10), 30]), ("c", 0, range(2, 60)),
+                                    ("d", 0, range(2, 7)),
+                                    ("b", "a", [0, *range(21, 31)]), ("d", "c", range(-40, 1)), ("e", "a", range(21, 31)),
+                                    (0, "e", [-30])]:
             for number in range(-40, 60):
                 layer = layer_to(Book(settings), one, other, number)
                 self.assertEqual(layer is not None, number in numbers, (one, other, number))
@@ -387,7 +398,8 @@ class Reckoned(SpreadTest):
 
     def test_equal_calls_and_new_lists(self):
         claim = CONTRAST & Claim.at_most("ground", 0, 90)
-        for call in (lambda: spread(theme(), "text", "ground"), lambda: risk(theme(), claim, "ground"), lambda: layer_to(theme(), "edge", 0, 50),
+        for call in (lambda: spread(theme(), "text", "ground"), lambda: risk(theme(), claim, "ground"),
+                     lambda: layer_to(theme(), "edge", 0, 50),
                      lambda: safe_limits(theme(), claim, "ground")):
             expected = repr(call())
             result = call()
@@ -407,8 +419,10 @@ class Errors(unittest.TestCase):
     def test_no_book(self):
         for book in odd_objects() + [THEME]:
             if not isinstance(book, Book):
-                for call, rest in [(spread, ([], [])), (risk, (None, [], [])), (layer_to, ([], [], None)), (safe_limits, (None, [])),
-                                   (spread, ("text",)), (risk, (CONTRAST, "text")), (layer_to, ("text", 0, 1)), (safe_limits, (CONTRAST, "ground"))]:
+                for call, rest in [(spread, ([], [])), (risk, (None, [], [])), (layer_to, ([], [], None)),
+                                   (safe_limits, (None, [])),
+                                   (spread, ("text",)), (risk, (CONTRAST, "text")), (layer_to, ("text", 0, 1)),
+                                   (safe_limits, (CONTRAST, "ground"))]:
                     self.assert_raises(InvalidBook, "value", book, call, book, *rest)
 
     def test_no_claim(self):
